@@ -331,12 +331,12 @@ func (x *cluster) step(t *testing.T, draw *rand.Rand) {
 	}
 }
 
-// told are outcomes: each of a request that there is, and not told another one.
+// told are outcomes: each of a request that there is, of which none was told yet.
 func (x *cluster) told(t *testing.T, outs []api.Outcome) {
 	t.Helper()
 	for _, o := range outs {
-		if was, ok := x.outs[o.Id]; ok && was != o.Code || x.asked[o.Id] == 0 {
-			t.Errorf("P18: outcome %+v, of %+v, was %d", o, x.c, was)
+		if was, ok := x.outs[o.Id]; ok || x.asked[o.Id] == 0 {
+			t.Errorf("P18.2: outcome %+v, by %+v, of %d; told already: %t, %d", o, x.c, x.asked[o.Id], ok, was)
 		}
 		x.outs[o.Id] = o.Code
 	}
@@ -370,7 +370,7 @@ func TestClusters(t *testing.T) {
 		for range 80 + draw.Intn(80) {
 			x.step(t, draw)
 			if x.value() < 0 {
-				t.Fatalf("P18: overdrawn: %+v", x)
+				t.Fatalf("P18.5: overdrawn: %+v", x)
 			}
 		}
 		x.rest(t, draw)
@@ -416,7 +416,7 @@ func (x *cluster) rest(t *testing.T, draw *rand.Rand) {
 		}
 		x.mail = nil
 	}
-	t.Errorf("P18: somebody waits still: %+v", x)
+	t.Errorf("P18.3: somebody waits still: %+v", x)
 }
 
 // TestAtOnce: P18.5, a request that comes where nobody waits, that its rights cover, and where no claim is known, is answered in that step.
